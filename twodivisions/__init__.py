@@ -1,0 +1,1 @@
+"""Twodivisions: loops that take numbers apart, under five rules of division."""
