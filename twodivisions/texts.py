@@ -26,8 +26,8 @@ class Lines:
         """
         words = self._lines[self._at] if self.comes(first) else []
         integers = words[many + 1:]
-        wanted = len(words) - many - 1
-        if "" in words or wanted < least or most is not None and wanted > most:
+        given = len(words) - many - 1
+        if "" in words or given < least or most is not None and given > most:
             raise InvalidText(self._at)
         if not all([is_decimal(word, MOST_DIGITS) for word in integers]):
             raise InvalidText(self._at)
