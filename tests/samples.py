@@ -70,6 +70,20 @@ class Case(unittest.TestCase):
             self.assertTrue(told is wanted or told == wanted, (name, field, told, wanted))
 
 
+def rank_of(rows):
+    """The rank of some rows of numbers, by elimination on fractions."""
+    left = [[Fraction(entry) for entry in row] for row in rows]
+    rank = 0
+    for place in range(len(left[0]) if left else 0):
+        leads = [row for row in left if row[place] != 0]
+        if leads:
+            rank += 1
+            lead = leads[0]
+            left = [row for row in left if row is not lead]
+            left = [[a - row[place] / lead[place] * b for a, b in zip(row, lead)] for row in left]
+    return rank
+
+
 def divided(rule, x, base):
     """The quotient and the remainder by the words of the table of rules."""
     exact = Fraction(x, base)
@@ -129,9 +143,31 @@ def play(parts, number):
     return {**told, "result": weigh(result, [*told["registers"][-1], 1])}
 
 
-def random_parts(chance):
-    """The parts of some program."""
-    size = chance.randint(2, 10)
+def play_from(parts, mode, x, registers):
+    """The run from a mode, an x and registers on, as play tells it."""
+    base, names, modes, ends, result = parts
+    first = [told for told in modes if told[0] == mode]
+    rest = [told for told in modes if told[0] != mode]
+    values = [(name, value) for (name, _), value in zip(names, registers, strict=True)]
+    return play((base, values, first + rest, ends, result), x)
+
+
+def figures_in(number, size):
+    """How many figures a number has."""
+    many = 0
+    while abs(number) >= size ** many:
+        many += 1
+    return many
+
+
+def numbers_up_to(figures, size):
+    """All integers of at most so many figures, by size, of two the one below 0 first."""
+    return [0, *(number for m in range(1, size ** figures) for number in (-m, m))]
+
+
+def random_parts(chance, size=None):
+    """The parts of some program, of a size if it is told."""
+    size = chance.randint(2, 10) if size is None else size
     names = chance.sample(["a", "bc", "mode", "zzzzzzzz"], chance.randint(1, 4))
     many = chance.randint(1, 3)
     registers = [(name, chance.randint(-5, 5)) for name in chance.sample(["a", "r", "sum", "last"], many)]
@@ -158,10 +194,10 @@ def random_numbers(chance):
     return [*range(-12, 13), chance.randint(-999, 999), long, -long]
 
 
-def some_parts(many):
+def some_parts(many, size=None):
     """The parts of so many programs, the same at each call."""
     chance = random.Random(20)
-    return [random_parts(chance) for _ in range(many)]
+    return [random_parts(chance, size) for _ in range(many)]
 
 
 STEP = ((10, 1, 0),)

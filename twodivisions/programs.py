@@ -100,10 +100,10 @@ class Program:
     def __call__(self, number):
         if not is_integer(number):
             raise InvalidNumber(number)
-        how, _, _, kept, _ = walk(self, number)
-        if how == "endless":
+        result = result_at(self, number)
+        if result is None:
             raise Endless(number)
-        return result_of(self, kept[-1])
+        return result
 
     def changed(self, *, base=None, ends=None, result=None):
         """The program with other values in those that are not None."""
@@ -166,31 +166,62 @@ def result_of(program, registers):
     return weighed(program.result, (*registers, 1))
 
 
-def walk(program, number):
-    """The run on an integer, as the tuple (how, last, rounds, kept, ring).
+def path_of(program, mode, x):
+    """The rounds of a run from a mode and an x on, as the tuple (how, last, rounds, changes, ring).
 
-    The rounds are tuples (mode, x, remainder); kept has the registers ahead of each of them and
-    behind the last one. The others are told as by a Run.
+    The rounds are tuples (mode, x, remainder); changes has the updates of each of them. The others are
+    told as by a Run.
     """
-    mode = program.modes()[0]
-    x = number
-    registers = tuple([first for _, first in program.registers()])
     rounds = []
-    kept = [registers]
+    changes = []
     seen = {}
     while (mode, x) not in seen:
         if x in program.ends:
-            return "rests", x, rounds, kept, None
+            return "rests", x, rounds, changes, None
         seen[mode, x] = len(rounds)
         quotient, remainder = divide(program.rule_of(mode), x, program.base)
         updates, then = program[mode, sign_of(x), remainder]
-        values = (*registers, remainder, 1)
-        registers = tuple([weighed(update, values) for update in updates])
         rounds.append((mode, x, remainder))
-        kept.append(registers)
+        changes.append(updates)
         if then is None:
-            return "stops", quotient, rounds, kept, None
+            return "stops", quotient, rounds, changes, None
         mode = then
         x = quotient
     index = seen[mode, x]
-    return "endless", None, rounds, kept, (index, len(rounds) - index)
+    return "endless", None, rounds, changes, (index, len(rounds) - index)
+
+
+def first_mode(program):
+    """The mode in which a run begins."""
+    return program.modes()[0]
+
+
+def first_values(program):
+    """The tuple of the registers ahead of a run."""
+    return tuple([first for _, first in program.registers()])
+
+
+def walk(program, number):
+    """The run on an integer, as the tuple (how, last, rounds, kept, ring).
+
+    It is as path_of tells it; but kept has the registers ahead of each round and behind the last one.
+    """
+    how, last, rounds, changes, ring = path_of(program, first_mode(program), number)
+    registers = first_values(program)
+    kept = [registers]
+    for (_, _, remainder), updates in zip(rounds, changes):
+        values = (*registers, remainder, 1)
+        registers = tuple([weighed(update, values) for update in updates])
+        kept.append(registers)
+    return how, last, rounds, kept, ring
+
+
+def is_endless(program, number):
+    """Whether the run on an integer never ends."""
+    return path_of(program, first_mode(program), number)[0] == "endless"
+
+
+def result_at(program, number):
+    """The result of the run on an integer, or None if it is endless."""
+    how, _, _, kept, _ = walk(program, number)
+    return None if how == "endless" else result_of(program, kept[-1])
