@@ -79,9 +79,43 @@ def wrong_lines(text):
             yield at, "L17 word"
 
 
+def wrong_bindings(tree):
+    """L15: a parameter or variable has the name of an import or a class of its file."""
+    taken = [node.name for node in tree.body if isinstance(node, ast.ClassDef)]
+    taken += [name for node in tree.body if isinstance(node, ast.ImportFrom) for name in names_bound(node)]
+    for node in ast.walk(tree):
+        if isinstance(node, (ast.arg, ast.Name)):
+            for name in names_bound(node):
+                if name in taken:
+                    yield node.lineno, f"L15 name {name}"
+
+
+def members(paths):
+    """The names of all methods, properties and attributes of the package."""
+    methods, properties, attributes = set(), set(), set()
+    for path in paths:
+        for node in ast.walk(ast.parse(path.read_text(encoding="utf-8"))):
+            if isinstance(node, ast.ClassDef):
+                functions = [part for part in node.body if isinstance(part, ast.FunctionDef)]
+                methods |= {part.name for part in functions if not part.decorator_list}
+                properties |= {part.name for part in functions if part.decorator_list}
+            if isinstance(node, ast.Attribute) and isinstance(node.ctx, ast.Store):
+                attributes.add(node.attr)
+    return methods, properties, attributes
+
+
+def wrong_members(paths):
+    """L5 and L18: no name is two of a method, a property and an attribute."""
+    methods, properties, attributes = members(paths)
+    # Desk.rule has a setter, so it is assigned like an attribute.
+    for name in sorted(methods & properties | methods & attributes | properties & attributes - {"rule"}):
+        yield f"L5 or L18 member {name}"
+
+
 def wrong_in(path):
     text = path.read_text(encoding="utf-8")
     yield from wrong_lines(text)
+    yield from wrong_bindings(ast.parse(text))
     for node in ast.walk(ast.parse(text)):
         for check in (wrong_imports, wrong_functions, wrong_names):
             for what in check(node):
@@ -97,6 +131,7 @@ def main():
             found.append(f"{path}: L1 no .py file")
         else:
             found.extend(f"{path}:{at}: {what}" for at, what in wrong_in(path))
+    found.extend(wrong_members(sorted(pathlib.Path(PACKAGE).glob("*.py"))))
     print("\n".join(found) or "language: nothing found")
     sys.exit(1 if found else 0)
 

@@ -249,7 +249,7 @@ def turn_round(factors, order, extra, is_result=False):
 def changed_parts(parts, chance):
     """The program with something put otherwise."""
     base, registers, modes, ends, result = parts
-    kind = chance.randrange(6)
+    kind = chance.randrange(7)
     at = chance.randrange(len(modes))
     name, rule, rows = modes[at]
     if kind == 0:
@@ -265,6 +265,12 @@ def changed_parts(parts, chance):
         rows = [*rows[:spot], row, *rows[spot + 1:]]
         return base, registers, [*modes[:at], (name, rule, rows), *modes[at + 1:]], ends, result
     if kind == 4:
+        spot = chance.randrange(len(rows))
+        sign, remainder, updates, then = rows[spot]
+        updates = ((*updates[0][:-1], updates[0][-1] + 1), *updates[1:])
+        rows = [*rows[:spot], (sign, remainder, updates, then), *rows[spot + 1:]]
+        return base, registers, [*modes[:at], (name, rule, rows), *modes[at + 1:]], ends, result
+    if kind == 5:
         return base, registers, modes, sorted({*ends, chance.choice([-1, 0, 1])}), result
     return base, registers, [*modes[at:], *modes[:at]], ends, result
 

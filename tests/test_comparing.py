@@ -18,7 +18,7 @@ def couples():
     """Tuples of the parts of two programs with the same size, the one often the other with a change."""
     chance = random.Random(31)
     for at in range(140):
-        size = SIZES[at % len(SIZES)]
+        size = SIZES[at % len(SIZES)] if at % 35 != 30 else 10
         one = with_parts(chance.choice([size, -size]), "abcd"[:1 + at % 4], chance, 1 + at % 3, at % 2)
         if at % 5 == 4:
             one = some_parts(at % 7 + 1, size)[-1]
@@ -62,7 +62,11 @@ def counter(base=2):
 
 class PartedTest(Case):
     def look_at(self, one, other, results, sign, modulus, remainder):
-        number = parted(Program(*one), Program(*other), sign=sign, modulus=modulus, remainder=remainder)
+        meant = {"sign": sign, "modulus": modulus, "remainder": remainder}
+        # What is left out stands for all numbers.
+        plain = {"sign": None, "modulus": 1, "remainder": 0}
+        meant = {name: value for name, value in meant.items() if value != plain[name]}
+        number = parted(Program(*one), Program(*other), **meant)
         wanted = figures_by_runs(one, other, results, sign, modulus, remainder)
         if number is None:
             self.assertIsNone(wanted)
@@ -154,6 +158,11 @@ class PartedTest(Case):
         self.assertEqual([parted(stops, rests, modulus=5, remainder=at) for at in range(1, 5)], [None] * 4)
         self.assertIsNone(parted(stops, rests, sign=-1))
 
+    def test_of_the_document(self):
+        program = Program(10, [("s", 0)], [("m", "zero", [(None, None, TOTAL, "m")])], [0], (1, 0))
+        told = [parted(program, program.under("down"), sign=1), parted(program, program.under("down")) in range(-9, 0)]
+        self.assertEqual(told, [None, True])
+
     def test_endless_for_one_only(self):
         number = parted(sums(), sums().under("down"))
         self.assertIn(number, range(-9, 0))
@@ -183,6 +192,8 @@ class RequireTest(Case):
         for at, (one, other) in enumerate(couples()):
             meant = {"sign": [None, 1, -1][at % 3], "modulus": 1 + at % 6, "remainder": 0}
             number = parted(Program(*one), Program(*other), **meant)
+            if meant["modulus"] == 1:
+                del meant["modulus"], meant["remainder"]
             if number is None:
                 self.assertIsNone(require_alike(Program(*one), Program(*other), **meant))
             else:

@@ -44,7 +44,7 @@ class PaperTest(Case):
             else:
                 self.assertTrue(is_right_agreement(one, other, paper))
                 self.assertIs(check_agreement(Program(*one), Program(*other), paper), True)
-        self.assertGreater(min(told), 20)
+        self.assertGreater(min(told), 10)
 
     def test_parted_by_long_numbers_only(self):
         many, none = counter()
@@ -169,7 +169,6 @@ class CheckTest(Case):
             self.assertIs(check_agreement(sums(), sums(), ((other,), below)), True)
 
     def test_entries_without_rows(self):
-        # The registers of both are 0 ahead of the second mode, so it needs no row but for the last number.
         one = (3, [("r", 0)], [("m", "zero", [(None, None, ((1, 0, 0),), "m")])], [0], (1, 0))
         paper = agreement_paper(Program(*one), Program(*one))
         for at, half in enumerate(paper):

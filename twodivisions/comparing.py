@@ -52,7 +52,7 @@ class Search:
             self._go_on()
         return [(key, row) for key, row, _, _, _ in self._finds]
 
-    def word(self, last_figure, most=None):
+    def shortest(self, last_figure, most=None):
         """The fewest figures to a row for which last_figure(key, row) is one, and it behind them, or None.
 
         Words of more than the most figures are not looked for.
@@ -218,8 +218,8 @@ def parting_word(couple, size, modulus, wanted, most):
                 return figure
         return None
 
-    key = (couple.first_pair(), 0, 1 % modulus)
-    return Search(key, couple.first_row(), size, follow).word(last_figure, most)
+    first = (couple.first_pair(), 0, 1 % modulus)
+    return Search(first, couple.first_row(), size, follow).shortest(last_figure, most)
 
 
 def parted(one, other, *, sign=None, modulus=1, remainder=0):

@@ -1,13 +1,10 @@
 """Agreement papers: what shows that two programs are alike on all numbers."""
 
 from twodivisions.checks import is_integer
-from twodivisions.comparing import Couple, Search, check_programs, columns_times, is_alike_at
+from twodivisions.comparing import Couple, Search, check_programs, columns_times, is_alike_at, signs_of
 from twodivisions.machines import is_state
 from twodivisions.programs import weighed
 from twodivisions.rows import is_form
-
-PAPER_SIGNS = (1, -1)
-
 
 def agreement_paper(one, other):
     """An agreement paper of two programs that is right, or None if some number parts them."""
@@ -15,7 +12,7 @@ def agreement_paper(one, other):
     if not is_alike_at(one, other, 0):
         return None
     halves = []
-    for sign in PAPER_SIGNS:
+    for sign in signs_of(None):
         couple = Couple(one, other, sign)
         search = Search(couple.first_pair(), couple.first_row(), one.size, couple.lead)
         for pair, row in search.finds():
@@ -118,7 +115,7 @@ def check_agreement(one, other, paper):
         return False
     if not is_alike_at(one, other, 0):
         return False
-    for sign, entries in zip(PAPER_SIGNS, paper):
+    for sign, entries in zip(signs_of(None), paper):
         if not is_right_half(Couple(one, other, sign), one.size, entries):
             return False
     return True

@@ -136,4 +136,4 @@ def broken_word(reader, search, form, most):
                 return figure
         return None
 
-    return search.word(last_figure, most)
+    return search.shortest(last_figure, most)

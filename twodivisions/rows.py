@@ -65,14 +65,14 @@ class Row:
         rests = [one - less for one, less in zip(self._ratios, other._ratios)]
         return Row(*rests)
 
-    def __mul__(self, number):
-        if not is_number(number):
+    def __mul__(self, other):
+        if not is_number(other):
             return NotImplemented
-        multiples = [ratio * number for ratio in self._ratios]
+        multiples = [ratio * other for ratio in self._ratios]
         return Row(*multiples)
 
-    def __rmul__(self, number):
-        return self * number
+    def __rmul__(self, other):
+        return self * other
 
     def __eq__(self, other):
         return isinstance(other, Row) and self._ratios == other._ratios

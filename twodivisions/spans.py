@@ -47,12 +47,10 @@ def grown(echelon, row):
 
 
 def full_of(echelon):
-    """The echelon with this span whose rows are 0 at the places of all others, and above 0 at their own."""
+    """The echelon with this span whose rows are 0 at the places of all others."""
     full = []
     for place, row in echelon[::-1]:
-        rest = reduced(full, row)
-        turn = 1 if rest[place] > 0 else -1
-        full = [(place, [turn * entry for entry in rest]), *full]
+        full = [(place, reduced(full, row)), *full]
     return full
 
 
@@ -93,21 +91,17 @@ def upright(form):
     return tuple(low)
 
 
-def marks_of(at, many, mark=1):
-    """So many integers, all of them 0 but the one with this index.
+def marked(row, at, many):
+    """The entries of a row as integers, and behind them so many marks, 0 but for the one with an index.
 
-    Behind the entries of the row with this index they go through an elimination with it, and tell behind
-    a sum of multiples of rows which multiples these are.
+    The mark tells with which number the row is multiplied to have integers. The marks go with the entries through
+    an elimination, so they tell behind a sum of multiples of rows which multiples of which rows these are.
     """
-    return [mark if place == at else 0 for place in range(many)]
-
-
-def integers_of(row):
-    """The tuple of a list of integers and the number from 1 on with which the row is multiplied to these."""
     common = 1
     for place in range(len(row)):
         common = lcm(common, row[place].bottom)
-    return [row[place].top * (common // row[place].bottom) for place in range(len(row))], common
+    entries = [row[place].top * (common // row[place].bottom) for place in range(len(row))]
+    return entries + [common if place == at else 0 for place in range(many)]
 
 
 class Span:
@@ -136,8 +130,7 @@ class Span:
         return isinstance(row, Row) and len(row) == self._width
 
     def _reduced(self, row):
-        entries, common = integers_of(row)
-        return reduced(self._echelon, entries + marks_of(len(self._rows), self._width + 1, common))
+        return reduced(self._echelon, marked(row, len(self._rows), self._width + 1))
 
     def added(self, row):
         """The span with a further row."""
