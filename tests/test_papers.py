@@ -118,6 +118,19 @@ class CheckTest(Case):
         self.assertEqual([check_agreement(stops, stops, paper), parted(stops, stops.changed(ends=[0]))], [True, 0])
         self.assertFalse(check_agreement(stops, stops.changed(ends=[0]), paper))
 
+    def test_results_that_are_not_equal(self):
+        # The ends and the result change no round ahead of the highest figure, so all steps stay right.
+        for rule in ("zero", "down"):
+            program = sums().under(rule)
+            paper = agreement_paper(program, program)
+            ends = [(at, 0) for at in range(-9, 0)] + [(0, at) for at in range(1, 10)]
+            for other in [program.changed(result=(2, 0)), *[program.changed(ends=told) for told in ends]]:
+                self.assertIs(check_agreement(program, other, paper), parted(program, other) is None)
+                self.assertIs(check_agreement(other, program, paper), parted(program, other) is None)
+        below = sums().under("down")
+        # The one is endless on all numbers below 0, the other one on none.
+        self.assertFalse(check_agreement(below, below.changed(ends=(-1, 0)), agreement_paper(below, below)))
+
     def test_any_value(self):
         wrong = [*STRANGE, ((), ()), ((), (), ()), ([], []), [(), ()], "paper", 12, (None, None), (((),), ((),)),
                  ((1,), (2,)), ((((), (), (), ()),), ())]
@@ -129,7 +142,8 @@ class CheckTest(Case):
         (entry,), below = paper
         state, beside, rows, steps = entry
         self.assertTrue(check_agreement(sums(), sums(), paper))
-        more = tuple([(part[0], *part[1:], 0) for part in step] for step in steps)
+        more = tuple(tuple((*part, 0) for part in step) for step in steps)
+        fewer = tuple(tuple(part[:2] if part[2] == 0 else part for part in step) for step in steps)
         wrong = [
             (state, beside, rows), (state, beside, rows, steps, ()), [state, beside, rows, steps],
             (list(state), beside, rows, steps), (("m", True, 0), beside, rows, steps),
@@ -138,6 +152,7 @@ class CheckTest(Case):
             (([], 1, 0), beside, rows, steps), (state, None, rows, steps), (state, beside, list(rows), steps),
             (state, beside, rows, list(steps)), (state, beside, rows[:1], steps[:1]), (state, beside, (), ()),
             (state, beside, rows, steps[:1]), (state, beside, rows, (*steps, steps[0])), (state, beside, rows, more),
+            (state, beside, rows, fewer), (state, beside, rows, (steps[0], [*steps[1]])),
             (state, beside, tuple(row[:-1] for row in rows), steps), (state, beside, (list(rows[0]), rows[1]), steps),
             (state, beside, ((0, 0, True), rows[1]), steps), (state, beside, ((False, 0, 1), rows[1]), steps),
             (state, beside, rows, (steps[0][:-1], steps[1])), (state, beside, rows, ((), steps[1])),

@@ -101,8 +101,6 @@ def check_corrections(program, rule, paper):
         if len(row) != 3:
             return None
         kept, number, agreement = row
-        if not isinstance(kept, tuple) or not all([isinstance(mode, str) for mode in kept]):
-            return None
         if kept not in sets or kept in good:
             return None
         if not is_shown(program, corrections.moved(kept), number, agreement):

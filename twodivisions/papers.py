@@ -59,7 +59,7 @@ def is_led(table, key, size, follow):
     The table has for each key the tuple (rows, steps).
     """
     rows, steps = table[key]
-    for figure in range(size if rows != () else 0):
+    for figure in range(size):
         behind, columns = follow(key, figure)
         if behind not in table:
             return False
@@ -97,11 +97,11 @@ def is_right_half(couple, size, entries):
     first = couple.first_pair()
     if table is None or first not in table or couple.first_row() not in table[first][0]:
         return False
-    for pair in table:
+    # The last number of the first row is not 0, so each pair to which figures lead has a row like it, and
+    # an entry without rows, of which nothing more is asked here, is never one of a right paper.
+    for pair, (rows, _) in table.items():
         for figure in range(1, size):
-            if couple.gap(pair, figure) is None:
-                return False
-            if any([couple.is_parted(pair, figure, row) for row in table[pair][0]]):
+            if any([couple.is_parted(pair, figure, row) for row in rows]):
                 return False
         if not is_led(table, pair, size, couple.lead):
             return False
