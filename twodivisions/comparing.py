@@ -10,18 +10,29 @@ from twodivisions.spans import full_of, lead_of, parts_of, reduced
 HIGHEST_MODULUS = 6
 
 
-def columns_times(row, columns):
-    """The row that columns make of a row."""
-    return tuple([weighed(column, row) for column in columns])
+def terms_of(column):
+    """The terms of a column: a list of the tuples (place, factor) for the factors that are not 0."""
+    return [(place, factor) for place, factor in enumerate(column) if factor != 0]
+
+
+def value_of(row, terms):
+    """The sum of the factors of some terms times the entries of a row at their places."""
+    return sum([factor * row[place] for place, factor in terms])
+
+
+def row_behind(row, columns):
+    """The row that columns, as lists of terms, make of a row."""
+    return tuple([value_of(row, terms) for terms in columns])
 
 
 class Search:
     """The rows to which figures lead, each at a key, those of fewer figures first.
 
     A figure leads from one key to another, and changes the rows there in a linear way: follow(key, figure) is
-    the tuple (key, columns). Of the rows at a key each one is left out that is a sum of multiples of those
-    found ahead of it; the others are kept less such a sum. So if anything linear is 0 on all rows found ahead
-    of one, it is 0 on the row that is kept exactly if it is 0 on the row to which its figures lead.
+    the tuple (key, columns), each column as a list of terms. Of the rows at a key each one is left out that is
+    a sum of multiples of those found ahead of it; the others are kept less such a sum. So if anything linear is
+    0 on all rows found ahead of one, it is 0 on the row that is kept exactly if it is 0 on the row to which its
+    figures lead.
     """
 
     def __init__(self, key, row, size, follow):
@@ -39,7 +50,7 @@ class Search:
             behind, columns = self._follow(key, figure)
             echelon = self._echelons.setdefault(behind, [])
             if len(echelon) < len(row):
-                rest = tuple(reduced(echelon, columns_times(row, columns)))
+                rest = tuple(reduced(echelon, row_behind(row, columns)))
                 place = lead_of(rest)
                 if place is not None:
                     echelon.append((place, rest))
@@ -96,15 +107,16 @@ class Search:
             own = (*ahead[key], *rows[key])
             steps = []
             for row in own:
-                nexts = [(behind, columns_times(row, columns)) for behind, columns in leads]
+                nexts = [(behind, row_behind(row, columns)) for behind, columns in leads]
                 steps.append(tuple([parts_of(fulls[behind], line, len(ahead[behind])) for behind, line in nexts]))
             told.append((key, own, tuple(steps)))
         return told
 
 
 def spread(column, ahead, behind):
-    """The column of a program for rows with other registers ahead of its own, or behind them."""
-    return (*[0] * ahead, *column[:-1], *[0] * behind, column[-1])
+    """The terms of the column of a program, for rows with so many entries ahead of its registers and behind them."""
+    last = len(column) - 1
+    return [(ahead + place + (behind if place == last else 0), factor) for place, factor in terms_of(column)]
 
 
 class Couple:
@@ -146,9 +158,9 @@ class Couple:
         return self._leads[pair, figure]
 
     def gap(self, pair, figure):
-        """The form whose value on a row is the difference of the results if this is the highest figure.
+        """The terms whose value on a row is the difference of the results if this is the highest figure.
 
-        It is None if one of the programs is endless and the other one is not, and 0 if both are.
+        None if one of the programs is endless and the other one is not, and no terms if both are.
         """
         if (pair, figure) not in self._gaps:
             self._gaps[pair, figure] = self._gap(pair, figure)
@@ -158,17 +170,17 @@ class Couple:
         tail = self._machine.tail(pair[0], figure)
         beside = self._beside.tail(pair[1], figure)
         if tail is None and beside is None:
-            return tuple([0] * (self._many + self._more + 1))
+            return []
         if tail is None or beside is None:
             return None
-        own = spread(columns_times(self._one.result, tail), 0, self._more)
-        others = spread(columns_times(self._other.result, beside), self._many, 0)
-        return tuple([entry - less for entry, less in zip(own, others)])
+        own = [weighed(self._one.result, line) for line in tail]
+        others = [-weighed(self._other.result, line) for line in beside]
+        return spread(own, 0, self._more) + spread(others, self._many, 0)
 
     def is_parted(self, pair, figure, row):
         """Whether the programs are not alike if this is the highest figure."""
         gap = self.gap(pair, figure)
-        return gap is None or weighed(gap, row) != 0
+        return gap is None or value_of(row, gap) != 0
 
 
 def check_programs(one, other):

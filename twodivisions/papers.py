@@ -1,9 +1,8 @@
 """Agreement papers: what shows that two programs are alike on all numbers."""
 
 from twodivisions.checks import is_integer
-from twodivisions.comparing import Couple, Search, check_programs, columns_times, is_alike_at, signs_of
+from twodivisions.comparing import Couple, Search, check_programs, is_alike_at, row_behind, signs_of, terms_of
 from twodivisions.machines import is_state
-from twodivisions.programs import weighed
 from twodivisions.rows import is_form
 
 def agreement_paper(one, other):
@@ -50,7 +49,7 @@ def is_steps(value, many, size):
 
 def is_sum(part, columns, row):
     """Whether whole times a row is the sum of the parts times the rows that have these columns."""
-    return [part[0] * entry for entry in row] == [weighed(part[1:], column) for column in columns]
+    return row_behind(part[1:], columns) == tuple([part[0] * entry for entry in row])
 
 
 def is_led(table, key, size, follow):
@@ -65,11 +64,11 @@ def is_led(table, key, size, follow):
             return False
         others = table[behind][0]
         # Not by zip: if there are no rows behind, each column is empty.
-        lines = [[other[at] for other in others] for at in range(len(columns))]
+        lines = [terms_of([other[at] for other in others]) for at in range(len(columns))]
         for row, parts in zip(rows, steps):
             if len(parts[figure]) != len(others) + 1:
                 return False
-            if not is_sum(parts[figure], lines, columns_times(row, columns)):
+            if not is_sum(parts[figure], lines, row_behind(row, columns)):
                 return False
     return True
 

@@ -1,7 +1,7 @@
 """Linear relations that hold at the end of every run."""
 
 from twodivisions.checks import is_sign
-from twodivisions.comparing import Search, columns_times, signs_of, spread
+from twodivisions.comparing import Search, row_behind, signs_of, spread
 from twodivisions.errors import InvalidForm, InvalidProgram, InvalidSign, Unlike
 from twodivisions.figures import number_of
 from twodivisions.machines import Machine, zero_row
@@ -29,16 +29,15 @@ class Reader:
         return Search(self._machine.first(), (*self._values, 0, self._sign, 1), self._size, self.lead)
 
     def _adding(self, figure):
-        # The column that adds a figure to the number.
-        return (*[0] * len(self._values), 1, figure, 0)
+        # The terms that add a figure to the number.
+        return [(len(self._values), 1), (len(self._values) + 1, figure)]
 
     def lead(self, state, figure):
         """The tuple of the state that comes next and the columns that make the extended row that comes next."""
         if (state, figure) not in self._leads:
-            many = len(self._values)
             behind, matrix = self._machine.step(state, figure)
             columns = [spread(column, 0, 2) for column in zip(*matrix)]
-            place = (*[0] * (many + 1), self._size, 0)
+            place = [(len(self._values) + 1, self._size)]
             self._leads[state, figure] = (behind, [*columns[:-1], self._adding(figure), place, columns[-1]])
         return self._leads[state, figure]
 
@@ -53,7 +52,7 @@ class Reader:
     def closed(self, state, row):
         """The list of the tuples (figure, row at the end) for the figures with which the run ends."""
         closings = [(figure, self.closing(state, figure)) for figure in range(1, self._size)]
-        return [(figure, columns_times(row, columns)) for figure, columns in closings if columns is not None]
+        return [(figure, row_behind(row, columns)) for figure, columns in closings if columns is not None]
 
 
 class Relations:
