@@ -163,32 +163,55 @@ def is_right_relation(parts, form, paper, sign):
     return all(is_right_reading(parts, form, own, entries) for own, entries in zip(signs, paper))
 
 
-def is_right_reading(parts, form, sign, entries):
+def is_right_reading(parts, form, own, entries):
     many, size = len(parts[1]), abs(parts[0])
+    if type(entries) is not tuple:
+        return False
+    states = states_by_words(parts, own)
     table = {}
     for entry in entries:
+        if type(entry) is not tuple or len(entry) != 3:
+            return False
         state, rows, steps = entry
-        assert type(entry) is tuple and type(rows) is tuple and is_plain_state(state)
-        if state in table or not all(is_ints(row, many + 3) for row in rows) or not has_steps(steps, rows, size):
+        if not is_plain_state(state) or state not in states or state in table:
+            return False
+        if type(rows) is not tuple or not all(is_ints(row, many + 3) for row in rows):
+            return False
+        if not has_steps(steps, rows, size):
             return False
         table[state] = (rows, steps)
-    first = first_state(parts, sign)
-    if first not in table or (*(value for _, value in parts[1]), 0, sign, 1) not in table[first][0]:
+    first = (*(value for _, value in parts[1]), 0, own, 1)
+    if states[0] not in table or first not in table[states[0]][0]:
         return False
-    for state, (rows, steps) in table.items():
-        for row, step in zip(rows, steps):
-            *values, number, place, last = row
-            for figure in range(size):
-                behind, updates, remainder = next_state(parts, state, figure)
-                after = values_behind(updates, remainder, values, last)
-                wanted = (*after, number + figure * place, place * size, last)
-                if behind not in table or not is_next(step[figure], wanted, table[behind][0]):
-                    return False
-            for figure in range(1, size):
-                after = values_at_end(parts, state, figure, values, last)
-                if after is not None and weigh(form, [*after, number + figure * place, last]) != 0:
-                    return False
+    return all(is_right_place(parts, form, table, state) for state in table)
+
+
+def is_right_place(parts, form, table, state):
+    size = abs(parts[0])
+    for row, step in zip(*table[state]):
+        *values, number, place, last = row
+        for figure in range(size):
+            behind, updates, remainder = next_state(parts, state, figure)
+            after = values_behind(updates, remainder, values, last)
+            wanted = (*after, number + figure * place, place * size, last)
+            if behind not in table or not is_next(step[figure], wanted, table[behind][0]):
+                return False
+        for figure in range(1, size):
+            after = values_at_end(parts, state, figure, values, last)
+            if after is not None and weigh(form, [*after, number + figure * place, last]) != 0:
+                return False
     return True
+
+
+def states_by_words(parts, sign):
+    """The states to which figures lead, found by own rounds."""
+    found = [first_state(parts, sign)]
+    for state in found:
+        for figure in range(abs(parts[0])):
+            behind = next_state(parts, state, figure)[0]
+            if behind not in found:
+                found.append(behind)
+    return found
 
 
 def bent(value, chance):

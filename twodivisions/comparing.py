@@ -89,6 +89,15 @@ class Search:
             _, _, _, elder, figure = self._finds[elder]
         return figures[::-1]
 
+    def words(self):
+        """The list of the tuples of figures that lead to the rows of finds()."""
+        return [tuple(self._figures_to(at)) for at in range(len(self.finds()))]
+
+    def full(self, key):
+        """The full echelon whose span the rows at a key have."""
+        self.finds()
+        return full_of(self._echelons[key])
+
     def steps(self):
         """The list of the tuples (key, rows, steps) of all keys; the first row is one of the rows of its key.
 

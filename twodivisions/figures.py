@@ -5,11 +5,14 @@ from twodivisions.errors import InvalidBase, InvalidFigures, InvalidNumber, Inva
 from twodivisions.running import run
 
 
+def is_word(value, size):
+    """Whether a value is a tuple of figures for a size."""
+    return isinstance(value, tuple) and all([is_between(figure, 0, size - 1) for figure in value])
+
+
 def is_figures(value, size):
     """Whether a value is a tuple of figures for a size, the highest one not 0."""
-    if not isinstance(value, tuple) or not all([is_between(figure, 0, size - 1) for figure in value]):
-        return False
-    return len(value) == 0 or value[-1] != 0
+    return is_word(value, size) and (len(value) == 0 or value[-1] != 0)
 
 
 def figures_of(number, size):

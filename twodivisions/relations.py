@@ -24,9 +24,17 @@ class Reader:
         self._values = first_values(program)
         self._leads = {}
 
+    def first_row(self):
+        """The first extended row."""
+        return (*self._values, 0, self._sign, 1)
+
+    def states(self):
+        """The list of the states, beginning with the first one."""
+        return self._machine.states()
+
     def search(self):
         """The search for the extended rows, each at a state."""
-        return Search(self._machine.first(), (*self._values, 0, self._sign, 1), self._size, self.lead)
+        return Search(self._machine.first(), self.first_row(), self._size, self.lead)
 
     def _adding(self, figure):
         # The terms that add a figure to the number.
