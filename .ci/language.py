@@ -54,6 +54,31 @@ def wrong_functions(node):
             yield f"L5 {node.name}"
 
 
+def is_plain(node):
+    """Whether a node may stand behind a star in a call: a name, an attribute off a name, literals and lists of these."""
+    if isinstance(node, (ast.List, ast.Tuple)):
+        return all(is_plain(part) for part in node.elts)
+    if isinstance(node, ast.Attribute):
+        return isinstance(node.value, ast.Name)
+    return isinstance(node, (ast.Name, ast.Constant))
+
+
+def wrong_calls(node):
+    if isinstance(node, ast.Call):
+        if any(isinstance(part, ast.Starred) and not is_plain(part.value) for part in node.args):
+            yield "L7 star"
+    if isinstance(node, ast.BinOp) and isinstance(node.op, ast.Pow):
+        if not (isinstance(node.right, ast.Constant) and node.right.value in range(65)):
+            yield "L27 exponent"
+    if isinstance(node, ast.Constant) and isinstance(node.value, str) and "%" in node.value:
+        yield "L27 sign in a string"
+    if isinstance(node, ast.Compare) and any(isinstance(word, (ast.Is, ast.IsNot)) for word in node.ops):
+        if not all(isinstance(part, ast.Constant) for part in node.comparators):
+            yield "L20 is"
+    if isinstance(node, ast.GeneratorExp):
+        yield "L7 generator expression beside operators"
+
+
 def wrong_names(node):
     for name in names_bound(node):
         if name in dir(builtins) or name in NEVER:
@@ -90,6 +115,34 @@ def wrong_bindings(tree):
                     yield node.lineno, f"L15 name {name}"
 
 
+def setters(paths):
+    """The names of all properties that can be assigned."""
+    names = set()
+    for path in paths:
+        for node in ast.walk(ast.parse(path.read_text(encoding="utf-8"))):
+            if isinstance(node, ast.Attribute) and node.attr == "setter":
+                names.add(node.value.id)
+    return names
+
+
+def wrong_cycles(paths):
+    """L16: no two files import from each other, not through others either."""
+    leads = {}
+    for path in paths:
+        tree = ast.parse(path.read_text(encoding="utf-8"))
+        froms = [node.module for node in tree.body if isinstance(node, ast.ImportFrom)]
+        leads[path.stem] = [name.split(".")[1] for name in froms if name.startswith(PACKAGE + ".")]
+    for file in leads:
+        behind, todo = set(), list(leads[file])
+        while todo:
+            other = todo.pop()
+            if other not in behind:
+                behind.add(other)
+                todo.extend(leads[other])
+        if file in behind:
+            yield f"L16 {file} imports from itself through others"
+
+
 def members(paths):
     """The names of all methods, properties and attributes of the package."""
     methods, properties, attributes = set(), set(), set()
@@ -107,8 +160,8 @@ def members(paths):
 def wrong_members(paths):
     """L5 and L18: no name is two of a method, a property and an attribute."""
     methods, properties, attributes = members(paths)
-    # Desk.rule has a setter, so it is assigned like an attribute.
-    for name in sorted(methods & properties | methods & attributes | properties & attributes - {"rule"}):
+    taken = properties & attributes - setters(paths)
+    for name in sorted(methods & properties | methods & attributes | taken):
         yield f"L5 or L18 member {name}"
 
 
@@ -117,7 +170,7 @@ def wrong_in(path):
     yield from wrong_lines(text)
     yield from wrong_bindings(ast.parse(text))
     for node in ast.walk(ast.parse(text)):
-        for check in (wrong_imports, wrong_functions, wrong_names):
+        for check in (wrong_imports, wrong_functions, wrong_calls, wrong_names):
             for what in check(node):
                 yield getattr(node, "lineno", 0), what
 
@@ -131,7 +184,8 @@ def main():
             found.append(f"{path}: L1 no .py file")
         else:
             found.extend(f"{path}:{at}: {what}" for at, what in wrong_in(path))
-    found.extend(wrong_members(sorted(pathlib.Path(PACKAGE).glob("*.py"))))
+    paths = sorted(pathlib.Path(PACKAGE).glob("*.py"))
+    found.extend([*wrong_members(paths), *wrong_cycles(paths)])
     print("\n".join(found) or "language: nothing found")
     sys.exit(1 if found else 0)
 

@@ -122,9 +122,10 @@ class Residues:
 
     def _rest(self, row):
         factors = [row[place] for place, _ in self._echelon]
-        if factors == []:
+        lines = [line for _, line in self._echelon]
+        if lines == []:
             return self.low(row)
-        columns = list(zip(*[line for _, line in self._echelon]))
+        columns = list(zip(*lines))
         return [(entry - weighed(factors, column)) % self._prime for entry, column in zip(row, columns)]
 
     def take(self, row):

@@ -5,6 +5,7 @@ from twodivisions.comparing import Couple, Search, check_programs, is_alike_at, 
 from twodivisions.machines import is_state
 from twodivisions.rows import is_form
 
+
 def agreement_paper(one, other):
     """An agreement paper of two programs that is right, or None if some number parts them."""
     check_programs(one, other)
