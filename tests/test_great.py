@@ -254,6 +254,8 @@ class ComparedTest(Case):
         for value in [*STRANGE, 11]:
             self.assertTrue(one != value)
             self.assertFalse(one == value)
+            with self.assertRaises(TypeError):
+                one < value
 
 
 class MovedTest(Case):

@@ -7,7 +7,6 @@ from twodivisions.errors import (
     InvalidResult, InvalidRow, InvalidText, NothingToRedo, NothingToUndo, NoTrial, UnknownName,
 )
 from twodivisions.journals import closed_text
-from twodivisions.printing import format_program
 from twodivisions.texts import parse_program
 
 SIGNS = {"+": 1, "-": -1, "*": None}
@@ -20,9 +19,9 @@ MOST_LINES_DIGITS = 6
 
 def guard_of(words):
     """The guard that is written by some words, or None."""
-    kind = words[0] if len(words) > 0 else ""
-    if kind not in WORDS or len(words) < WORDS[kind]:
+    if words == [] or words[0] not in WORDS or len(words) < WORDS[words[0]]:
         return None
+    kind = words[0]
     head = words[:WORDS[kind]]
     rest = words[WORDS[kind]:]
     if head[-1] not in SIGNS or kind != "relation" and rest != []:
@@ -43,25 +42,12 @@ def add_guard(book, words):
     return True
 
 
-def take_guard(book, words):
-    """Take away the guard that is written by some words; whether that is a deed."""
-    guard = guard_of(words)
-    if guard is None:
-        return False
-    book.unguard(guard)
-    return True
-
-
 def put(book, words, lines):
     """Set the program of some lines; whether that is a deed."""
     name, many = words
-    text = "\n".join(lines)
     if many != str(len(lines)):
         return False
-    program = parse_program(text)
-    if format_program(program) != text:
-        return False
-    book.set_program(name, program)
+    book.set_program(name, parse_program("\n".join(lines)))
     return True
 
 
@@ -93,7 +79,9 @@ def do_deed(book, words, lines):
     if first == "guard":
         return add_guard(book, rest)
     if first == "unguard":
-        return take_guard(book, rest)
+        # No guard of the book is None.
+        book.unguard(guard_of(rest))
+        return True
     return rest == [] and do_plain(book, first)
 
 
