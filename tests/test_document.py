@@ -3,7 +3,7 @@ import importlib
 import inspect
 import unittest
 
-from tests.samples import Case
+from tests.samples import STRANGE, Case, sums, turned, two_modes
 
 EXAMPLES = """
 >>> from twodivisions.rules import carry, divide
@@ -141,6 +141,143 @@ class InterfaceTest(Case):
         self.assertIsInstance(vars(great)["from_pieces"], classmethod)
         self.assertTrue(inspect.isgeneratorfunction(module_of("endless").EndlessNumbers.numbers))
         self.assertTrue(inspect.isgeneratorfunction(module_of("console").Console.answers))
+
+
+class Hostile:
+    """A value that cannot be compared, hashed, tested, measured or iterated."""
+
+    def fail(self, *values):
+        raise AssertionError("the value was asked for something")
+
+    __eq__ = __ne__ = __hash__ = __bool__ = __len__ = __iter__ = __contains__ = __getitem__ = __lt__ = __le__ = fail
+    __index__ = __int__ = __abs__ = __add__ = __radd__ = __mul__ = __rmul__ = __mod__ = __call__ = fail
+
+
+def objects():
+    """An object of each class."""
+    from twodivisions.great import GreatNumber
+    from twodivisions.ratios import Ratio
+    from twodivisions.rows import Row
+    from twodivisions.running import run
+    from twodivisions.wholes import Desk
+    told = [Desk(), Desk().make(1), turned(), run(turned(), 1), Ratio(1), Row(1), module_of("spans").Span(1),
+            GreatNumber(10, 1, ((1,), 1)), module_of("machines").Machine(turned(), 1),
+            module_of("endless").EndlessNumbers(turned()), module_of("corrections").Corrections(turned(), "up"),
+            module_of("relations").Relations(turned()), module_of("least").LeastMachine(turned(), 1),
+            module_of("drafts").Draft(turned()), module_of("drafts").Draft(turned()).site("m"), module_of("books").Book(),
+            module_of("console").Console(module_of("books").Book())]
+    return told
+
+
+class AnyValueTest(Case):
+    def test_objects_are_unequal_to_values_of_other_kinds(self):
+        told = objects()
+        for at, one in enumerate(told):
+            for other in [*STRANGE, 1, (1,), *told[:at], *told[at + 1:]]:
+                self.assertEqual([one == other, one != other, other == one, other != one], [False, True, False, True])
+
+    def asked(self, name, call, *values, **named):
+        """Check that a call with a hostile value raises an error that has it as its value."""
+        with self.assertRaises(getattr(module_of("errors"), name)) as caught:
+            call(*values, **named)
+        for told in vars(caught.exception).values():
+            self.assertTrue(told is None or isinstance(told, (Hostile, int, str, tuple, list)), told)
+
+    def test_values_that_cannot_be_asked_for_anything(self):
+        bad, sign, good = Hostile(), 1, sums()
+        rules, programs, figures, running = (module_of(name) for name in ("rules", "programs", "figures", "running"))
+        wholes, texts, machines = (module_of(name) for name in ("wholes", "texts", "machines"))
+        endless, ratios, rows, spans = (module_of(name) for name in ("endless", "ratios", "rows", "spans"))
+        comparing, papers, corrections = (module_of(name) for name in ("comparing", "papers", "corrections"))
+        relations, linear, least = (module_of(name) for name in ("relations", "linear", "least"))
+        great, books, drafts = (module_of(name) for name in ("great", "books", "drafts"))
+        self.asked("InvalidRule", rules.divide, bad, 1, 2)
+        self.asked("InvalidNumber", rules.divide, "up", bad, 2)
+        self.asked("InvalidBase", rules.divide, "up", 1, bad)
+        self.asked("InvalidSign", rules.carry, "up", bad, 2, 1)
+        self.asked("InvalidNumber", rules.carry, "up", 1, 2, bad)
+        self.asked("InvalidRule", wholes.Desk, bad)
+        self.asked("InvalidRule", wholes.Desk().using, bad)
+        self.asked("InvalidNumber", wholes.Desk().make, bad)
+        parts = [10, [("s", 0)], [("m", "zero", [(None, None, ((1, 1, 0),), "m")])], [0], (1, 0)]
+        names = ["InvalidBase", "InvalidRegisters", "InvalidModes", "InvalidEnds", "InvalidResult"]
+        for at, name in enumerate(names):
+            for value in (bad, (bad,), [bad], ((bad, bad),), (bad, bad, bad)):
+                self.asked(name, programs.Program, *parts[:at], value, *parts[at + 1:])
+        for row in [bad, (bad,) * 4, (None, bad, ((1, 1, 0),), "m"), (None, None, bad, "m"), (None, None, (bad,), "m"),
+                    (None, None, ((1, 1, bad),), "m"), (None, None, ((1, 1, 0),), bad)]:
+            self.asked("InvalidRow", programs.Program, 10, parts[1], [("m", "zero", [row])], [0], (1, 0))
+        self.asked("UnknownName", good.__getitem__, (bad, bad, bad))
+        self.asked("InvalidSign", good.__getitem__, ("m", bad, bad))
+        self.asked("InvalidNumber", good.__getitem__, ("m", 1, bad))
+        self.asked("InvalidNumber", good, bad)
+        self.asked("InvalidRow", good.with_row, "m", bad, bad, bad, bad)
+        self.asked("InvalidText", texts.parse_program, bad)
+        self.asked("InvalidNumber", running.run, good, bad)
+        self.asked("InvalidNumber", running.run(good, 5).registers, bad)
+        self.asked("InvalidFigures", figures.number_of, 1, (bad,), 10)
+        self.asked("InvalidState", machines.Machine(good, 1).step, (bad, bad, bad), 1)
+        self.asked("InvalidState", machines.Machine(good, 1).tail, ("m", 1, bad), 1)
+        self.asked("InvalidNumber", machines.Machine(good, 1).step, ("m", 1, 0), bad)
+        self.asked("InvalidFigures", machines.Machine(good, 1), (bad,))
+        self.assertFalse(bad in endless.EndlessNumbers(good))
+        self.asked("InvalidRatio", ratios.Ratio, bad)
+        self.asked("InvalidRows", rows.Row, bad)
+        self.asked("InvalidForm", rows.Row(1).dot, (bad,))
+        self.asked("InvalidRows", spans.Span(1).added, bad)
+        self.assertFalse(bad in spans.Span(1))
+        self.assertIsNone(spans.Span(1).parts(bad))
+        self.asked("InvalidProgram", comparing.parted, good, bad)
+        self.asked("InvalidSign", comparing.parted, good, good, sign=bad)
+        self.asked("InvalidNumber", comparing.parted, good, good, modulus=bad)
+        self.asked("InvalidNumber", comparing.parted, good, good, remainder=bad)
+        paper = papers.agreement_paper(good, good)
+        for wrong in self.with_one_part(paper, bad):
+            self.assertFalse(papers.check_agreement(good, good, wrong))
+        self.asked("UnknownName", corrections.Corrections(good, "up").moved, (bad,))
+        paper = corrections.Corrections(good, "up").paper()
+        for wrong in self.with_one_part(paper, bad):
+            self.assertIsNone(corrections.check_corrections(good, "up", wrong))
+        check = module_of("relationpapers").check_relation
+        for wrong in self.with_one_part(relations.Relations(good).paper(), bad):
+            self.assertFalse(check(good, (0, 0, 0), wrong))
+        self.asked("InvalidForm", check, good, (bad, bad, bad), None)
+        for wrong in self.with_one_part(((1, 2), (3, 4)), bad):
+            self.asked("InvalidRows", linear.determinant, wrong)
+        told = least.LeastMachine(good, sign)
+        for wrong in self.with_one_part(told.machine(), bad):
+            self.asked("InvalidMachine", least.differing_word, good, 1, wrong)
+            self.asked("InvalidMachine", linear.machine_value, wrong, ())
+        self.asked("InvalidFigures", linear.machine_value, told.machine(), (bad,))
+        for wrong in self.with_one_part(told.heads(), bad):
+            self.assertFalse(told.check_heads(good, 1, wrong, told.tails()))
+        self.asked("InvalidFigures", told, (1, bad))
+        for wrong in [bad, (bad,), ((bad,), 1), ((1,), bad), (bad, 1)]:
+            self.asked("InvalidPieces", great.GreatNumber, 10, 1, wrong)
+        self.asked("InvalidPieces", great.GreatNumber.from_pieces, 10, 1, bad)
+        self.asked("InvalidNumber", great.GreatNumber(10, 1, ((1,), 1)).__getitem__, bad)
+        self.asked("InvalidNumber", great.GreatNumber(10, 1, ((1,), 1)).__lshift__, bad)
+        draft = drafts.Draft(two_modes())
+        self.asked("InvalidRow", draft.__setitem__, (bad, bad, bad), bad)
+        self.asked("UnknownName", draft.site, bad)
+        book = books.Book()
+        book["a"] = good
+        guard = book.guard("relation", "a", (0, 0, 0), sign=1)
+        self.assertFalse(bad in book)
+        self.asked("InvalidCommand", book.guard, bad)
+        self.asked("UnknownName", book.guard, "alike", "a", bad)
+        self.asked("InvalidForm", book.guard, "relation", "a", bad)
+        for wrong in self.with_one_part(guard, bad):
+            self.asked("UnknownName", book.unguard, wrong)
+        self.asked("InvalidText", module_of("replays").read_journal, bad)
+
+    def with_one_part(self, value, bad):
+        """The values in which one part of a tuple, however deep, is another one."""
+        told = [bad]
+        for at, part in enumerate(value):
+            others = self.with_one_part(part, bad) if isinstance(part, tuple) else [bad]
+            told.extend((*value[:at], other, *value[at + 1:]) for other in others[:12])
+        return told
 
 
 if __name__ == "__main__":

@@ -5,19 +5,8 @@ from twodivisions.figures import figures_of
 from twodivisions.machines import Machine, zero_row
 from twodivisions.programs import Program
 
-from tests.oracles import next_state
+from tests.oracles import next_state, states_by_words
 from tests.samples import STRANGE, Case, play, play_from, some_parts, sums, turned, two_modes, weigh
-
-
-def states_by_breadth(parts, sign):
-    """The states in the told order."""
-    found = [(parts[2][0][0], sign, 0)]
-    for state in found:
-        for figure in range(abs(parts[0])):
-            behind = next_state(parts, state, figure)[0]
-            if behind not in found:
-                found.append(behind)
-    return found
 
 
 def row_by(row, matrix):
@@ -40,7 +29,7 @@ class StatesTest(Case):
         for parts in some_parts(60):
             for sign in (1, -1):
                 machine = Machine(Program(*parts), sign)
-                self.assertEqual(machine.states(), states_by_breadth(parts, sign))
+                self.assertEqual(machine.states(), states_by_words(parts, sign))
 
     def test_the_list_is_new(self):
         machine = Machine(two_modes(), 1)

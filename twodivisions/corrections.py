@@ -83,6 +83,11 @@ class Corrections:
         return None, agreement_paper(self._program, self.moved(kept))
 
 
+def is_names(value):
+    """Whether a value is a tuple of texts, which can be compared with sets of modes."""
+    return isinstance(value, tuple) and all([isinstance(name, str) for name in value])
+
+
 def is_shown(program, moved, number, paper):
     """Whether a number parts two programs, or else a paper shows that they are alike."""
     if number is None:
@@ -101,7 +106,7 @@ def check_corrections(program, rule, paper):
         if len(row) != 3:
             return None
         kept, number, agreement = row
-        if kept not in sets or kept in good:
+        if not is_names(kept) or kept not in sets or kept in good:
             return None
         if not is_shown(program, corrections.moved(kept), number, agreement):
             return None

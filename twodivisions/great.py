@@ -65,9 +65,9 @@ def repeated(row, matrix, times, modulus):
     return row
 
 
-def highest_first(pieces):
-    """The list of the runs of a number from the highest figure down: tuples (word, number of figures)."""
-    return [(piece[0][::-1], figures_in(piece)) for piece in pieces[::-1]]
+def run_of(piece):
+    """The run of a piece: the tuple of its word, from the highest figure down, and the number of figures."""
+    return piece[0][::-1], figures_in(piece)
 
 
 def difference(word, other, many):
@@ -81,27 +81,25 @@ def difference(word, other, many):
     return None
 
 
-def without(runs, many):
-    """The runs without so many of their first figures, which are all in the first run."""
-    word, length = runs[0]
-    if length == many:
-        return runs[1:]
+def rest_of(run, many):
+    """The list of what is left of a run without its first figures, so many: one run, or none."""
+    word, length = run
     turn = many % len(word)
-    return [(word[turn:] + word[:turn], length - many), *runs[1:]]
+    return [] if length == many else [(word[turn:] + word[:turn], length - many)]
 
 
 def highest_difference(pieces, others):
     """The two figures at the highest place at which two numbers of as many figures differ, or None."""
-    runs = highest_first(pieces)
-    besides = highest_first(others)
+    runs = [run_of(piece) for piece in pieces]
+    besides = [run_of(piece) for piece in others]
     while runs != []:
-        (word, many), (other, more) = runs[0], besides[0]
-        shared = many if many < more else more
-        found = difference(word, other, shared)
+        run, beside = runs.pop(), besides.pop()
+        shared = run[1] if run[1] < beside[1] else beside[1]
+        found = difference(run[0], beside[0], shared)
         if found is not None:
             return found
-        runs = without(runs, shared)
-        besides = without(besides, shared)
+        runs.extend(rest_of(run, shared))
+        besides.extend(rest_of(beside, shared))
     return None
 
 
